@@ -1,0 +1,1 @@
+"""Rows of two signs that tell the lengths of their own runs."""
