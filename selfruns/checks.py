@@ -4,11 +4,14 @@ from selfruns.errors import NoLengths
 from selfruns.errors import NoLetters
 from selfruns.errors import NoRow
 from selfruns.errors import NoSign
+from selfruns.errors import TooMany
 
 LEAST_NUMBER = 1
 GREATEST_NUMBER = 9
 MOST_SIGNS = 400
 MOST_LENGTHS = 60
+MOST_RUNS = 60
+LONGEST_LISTED = 10
 
 
 def check_letters(letters):
@@ -38,3 +41,8 @@ def check_lengths(some):
     for length in some:
         if not LEAST_NUMBER <= length <= GREATEST_NUMBER:
             raise NoLengths(f"no length from 1 to 9: {length!r}")
+
+
+def check_many(many, most):
+    if not 0 <= many <= most:
+        raise TooMany(f"not from 0 to {most}: {many!r}")

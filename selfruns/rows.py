@@ -9,8 +9,8 @@ def other_sign(letters, sign):
     return letters[1] if sign == letters[0] else letters[0]
 
 
-def lengths(letters, row):
-    check_row(letters, row)
+# Without a check, since a smooth row may be asked about with one sign more than a row that is handed in has.
+def run_lengths(row):
     told = []
     last = None
     for sign in row:
@@ -20,6 +20,11 @@ def lengths(letters, row):
             told.append(1)
         last = sign
     return told
+
+
+def lengths(letters, row):
+    check_row(letters, row)
+    return run_lengths(row)
 
 
 def exchanged(letters, row):
